@@ -1,0 +1,1 @@
+"""Missedparts: what can be told when any letters may be missed."""
