@@ -19,6 +19,11 @@ def is_text(value):
     return isinstance(value, str) and all([letter in SMALL_LETTERS for letter in value])
 
 
+def is_over(value, letters):
+    """Whether any value is a text that has none but these letters."""
+    return isinstance(value, str) and all([letter in letters for letter in value])
+
+
 def are_letters(value):
     """Whether any value is a string of one to three unlike small letters, rising."""
     if not is_text(value) or not 1 <= len(value) <= MOST_LETTERS:

@@ -2,7 +2,7 @@
 
 import unittest
 
-from missedparts.basics import are_letters, is_count, is_integer, is_text
+from missedparts.basics import are_letters, is_count, is_integer, is_over, is_text
 
 OTHERS = [
     None, [], [1], ["a"], ("a",), (), {}, {"a": 1}, {1}, b"", b"ab", object(), len, int, ValueError("a"), range(2),
@@ -42,6 +42,18 @@ class Texts(Asking):
     def test_other_characters(self):
         wrong = ["A", "Z", "aB", "a b", " ", "a ", " a", "a\n", "\n", "-", "`", "{", "~", "1", "a1", "a*", "b-", "_"]
         self.assert_answers(is_text, False, wrong + ["a" * 8999 + "A", "\u00e4", "\u0430", "\u00aa", "\ud800"])
+
+
+class Over(unittest.TestCase):
+    def test_texts_over_letters(self):
+        for value, letters in [("", "a"), ("a", "a"), ("bab", "ab"), ("abc" * 3000, "abc"), ("", "")]:
+            self.assertIs(is_over(value, letters), True)
+        for value, letters in [("b", "a"), ("abc", "ab"), ("A", "a"), ("a\n", "ab"), ("a*", "ab"), ("a", "")]:
+            self.assertIs(is_over(value, letters), False)
+
+    def test_other_kinds(self):
+        for value in OTHERS + [0, True, False]:
+            self.assertIs(is_over(value, "ab"), False)
 
 
 class Letters(Asking):

@@ -1,16 +1,96 @@
 """The rules for the files of the package that can be read off them: sizes, characters, imports."""
 
 import ast
+import builtins
 import unittest
 from pathlib import Path
 
 PACKAGE = Path(__file__).resolve().parent.parent / "missedparts"
 LIBRARY = {"heapq", "math", "itertools", "collections", "__future__"}
+BUILTINS = set(
+    "len range enumerate zip min max sum abs sorted reversed int str bool bytes list tuple dict set frozenset isinstance "
+    "ord repr any all divmod pow map iter next type getattr hasattr setattr super property staticmethod classmethod "
+    "Exception ValueError TypeError KeyError IndexError LookupError ZeroDivisionError ArithmeticError OverflowError "
+    "RuntimeError NotImplementedError AttributeError StopIteration NotImplemented".split())
+METHODS = set(
+    "append clear copy count endswith extend find get index insert isalnum isalpha isdigit islower isspace isupper items "
+    "join keys ljust lower lstrip partition pop remove replace reverse rfind rjust rpartition rsplit rstrip setdefault "
+    "split splitlines startswith strip update upper values zfill bit_length encode".split())
+CHANGING = set("append clear extend insert pop remove reverse setdefault update add discard".split())
+# What runs without being called by its name: it may change nothing but what it has made, and call nothing it is passed.
+SIGNS = set(
+    "__eq__ __ne__ __lt__ __le__ __gt__ __ge__ __add__ __sub__ __mul__ __floordiv__ __mod__ __and__ __or__ __xor__ "
+    "__neg__ __invert__ __abs__ __bool__ __contains__ __getitem__ __len__ __repr__ __str__".split())
 
 
 def sources():
     """Each file of the package with what is written in it."""
     return [(path, path.read_text(encoding="utf-8")) for path in sorted(PACKAGE.rglob("*.py"))]
+
+
+def trees():
+    """Each file of the package as a tree."""
+    return [(path, ast.parse(text)) for path, text in sources()]
+
+
+def bound_in(node):
+    """The names that a function or a file binds, each where it does so."""
+    for each in ast.walk(node):
+        if isinstance(each, (ast.FunctionDef, ast.ClassDef)):
+            yield each.name
+        elif isinstance(each, ast.arg):
+            yield each.arg
+        elif isinstance(each, ast.Name) and not isinstance(each.ctx, ast.Load):
+            yield each.id
+
+
+def methods():
+    """Each method of the package by its name; several may have the same one."""
+    found = {}
+    for path, tree in trees():
+        for kind in tree.body:
+            if isinstance(kind, ast.ClassDef):
+                for node in kind.body:
+                    if isinstance(node, ast.FunctionDef):
+                        found.setdefault(node.name, []).append((path, node))
+    return found
+
+
+def called_by_name():
+    """For each file the functions, and the constructors, that a name in it means."""
+    own = {path.stem: {} for path, _ in trees()}
+    for path, tree in trees():
+        for node in tree.body:
+            if isinstance(node, ast.FunctionDef):
+                own[path.stem][node.name] = [(path, node)]
+            if isinstance(node, ast.ClassDef):
+                own[path.stem][node.name] = [(path, each) for each in node.body if getattr(each, "name", "") == "__init__"]
+    meant = {stem: dict(names) for stem, names in own.items()}
+    for path, tree in trees():
+        for node in tree.body:
+            if isinstance(node, ast.ImportFrom) and node.module.startswith("missedparts."):
+                there = own[node.module.split(".")[1]]
+                meant[path.stem].update({name.name: there[name.name] for name in node.names if name.name in there})
+    return meant
+
+
+def run_by_signs():
+    """All functions that signs, properties and what they call run; methods are told by their names alone."""
+    known, meant = methods(), called_by_name()
+    waiting = [each for name in SIGNS for each in known.get(name, [])]
+    waiting += [each for row in known.values() for each in row
+                if any(isinstance(sign, ast.Name) and sign.id == "property" for sign in each[1].decorator_list)]
+    found = {}
+    while waiting:
+        path, node = waiting.pop()
+        if (path, node.lineno) not in found:
+            found[path, node.lineno] = node
+            for each in ast.walk(node):
+                if isinstance(each, ast.Name):
+                    waiting.extend(meant[path.stem].get(each.id, []))
+                if isinstance(each, ast.Attribute):
+                    waiting.extend(known.get(each.attr, []))
+    return found
 
 
 class Files(unittest.TestCase):
@@ -47,6 +127,113 @@ class Files(unittest.TestCase):
                     top = node.module.split(".")[0]
                     self.assertTrue(top == "missedparts" or node.module in LIBRARY, (path, node.module))
                     self.assertNotIn("*", [name.name for name in node.names], path)
+
+    def test_no_two_files_import_each_other(self):
+        needs = {path.stem: sorted({node.module.split(".")[1] for node in ast.walk(tree)
+                                    if isinstance(node, ast.ImportFrom) and node.module.startswith("missedparts.")})
+                 for path, tree in trees()}
+        ready = []
+        while len(ready) < len(needs):
+            more = [name for name in needs if name not in ready and all(each in ready for each in needs[name])]
+            self.assertTrue(more, sorted(set(needs) - set(ready)))
+            ready.extend(more)
+
+    def test_each_import_is_used_and_names_the_file_that_defines_it(self):
+        defined = {path.stem: {node.name for node in tree.body if isinstance(node, (ast.FunctionDef, ast.ClassDef))}
+                   | {each.id for node in tree.body if isinstance(node, ast.Assign) for each in node.targets}
+                   for path, tree in trees()}
+        for path, tree in trees():
+            used = {node.id for node in ast.walk(tree) if isinstance(node, ast.Name)}
+            for node in ast.walk(tree):
+                if isinstance(node, ast.ImportFrom) and node.module.startswith("missedparts."):
+                    for name in node.names:
+                        self.assertIn(name.name, defined[node.module.split(".")[1]], path)
+                        self.assertIn(name.name, used, path)
+
+
+class Words(unittest.TestCase):
+    def test_no_name_of_a_builtin(self):
+        for path, tree in trees():
+            names = {name for name in bound_in(tree)} - {
+                each.name for node in ast.walk(tree) if isinstance(node, ast.ClassDef) for each in node.body
+                if isinstance(each, ast.FunctionDef)}
+            # The sign of what is left unread is not a builtin, though examples that are run may make it one.
+            self.assertEqual(names & set(dir(builtins)) - {"_"}, set(), path)
+
+    def test_only_some_builtins(self):
+        for path, tree in trees():
+            used = {node.id for node in ast.walk(tree) if isinstance(node, ast.Name) and isinstance(node.ctx, ast.Load)}
+            self.assertEqual((used & set(dir(builtins))) - BUILTINS, set(), path)
+
+    def test_no_local_name_of_an_import_or_a_class(self):
+        for path, tree in trees():
+            outer = {name.name for node in tree.body if isinstance(node, ast.ImportFrom) for name in node.names}
+            outer |= {node.name for node in tree.body if isinstance(node, ast.ClassDef)}
+            for node in ast.walk(tree):
+                if isinstance(node, ast.FunctionDef):
+                    self.assertEqual(set(bound_in(node)) & outer - {node.name}, set(), (path, node.name))
+
+    def test_methods(self):
+        own = set(methods())
+        for path, tree in trees():
+            for node in ast.walk(tree):
+                if isinstance(node, ast.Call) and isinstance(node.func, ast.Attribute):
+                    self.assertIn(node.func.attr, own | METHODS, path)
+
+    def test_plain_names(self):
+        barred = {"register", "mro", "elements", "open", "input", "law", "id", "vars", "dir", "type", "exec", "eval"}
+        for path, tree in trees():
+            for name in bound_in(tree):
+                self.assertTrue(name.isascii() and not name.startswith("__") or name in SIGNS | {"__init__"}, (path, name))
+                self.assertNotIn(name, barred, path)
+
+
+class Forms(unittest.TestCase):
+    def test_no_form_that_is_left_out(self):
+        left_out = (ast.GeneratorExp, ast.Div, ast.AsyncFunctionDef, ast.Await, ast.Global, ast.AnnAssign, ast.Yield)
+        for path, tree in trees():
+            for node in ast.walk(tree):
+                self.assertNotIsInstance(node, left_out, path)
+                if isinstance(node, ast.Constant):
+                    self.assertNotIsInstance(node.value, (float, complex), path)
+                if isinstance(node, (ast.Set, ast.SetComp)):
+                    self.fail((path, node.lineno))
+
+    def test_only_some_decorators(self):
+        for path, tree in trees():
+            for node in ast.walk(tree):
+                if isinstance(node, ast.FunctionDef):
+                    names = [each.id for each in node.decorator_list]
+                    self.assertIn(names, [[], ["property"], ["staticmethod"]], (path, node.name))
+
+    def test_sets_are_only_counted_and_sorted(self):
+        for path, tree in trees():
+            right = [each for node in ast.walk(tree) if isinstance(node, ast.Call) and isinstance(node.func, ast.Name)
+                     and node.func.id in ("len", "sorted") for each in node.args]
+            for node in ast.walk(tree):
+                if isinstance(node, ast.Call) and isinstance(node.func, ast.Name) and node.func.id == "set":
+                    self.assertIn(node, right, (path, node.lineno))
+
+    def test_what_signs_run_calls_nothing_that_it_is_passed(self):
+        for (path, _), node in run_by_signs().items():
+            passed = {each.arg for each in ast.walk(node) if isinstance(each, ast.arg)}
+            for each in ast.walk(node):
+                if isinstance(each, ast.Call) and isinstance(each.func, ast.Name):
+                    self.assertNotIn(each.func.id, passed, (path, node.name))
+
+    def test_what_signs_run_changes_only_what_it_has_made(self):
+        for (path, _), node in run_by_signs().items():
+            made = {target.id for each in ast.walk(node) if isinstance(each, ast.Assign) for target in each.targets
+                    if isinstance(target, ast.Name) and isinstance(each.value, (ast.List, ast.Dict, ast.ListComp, ast.DictComp))}
+            for each in ast.walk(node):
+                place = (path, node.name, getattr(each, "lineno", 0))
+                self.assertNotIsInstance(each, ast.AugAssign, place)
+                if isinstance(each, ast.Call) and isinstance(each.func, ast.Attribute) and each.func.attr in CHANGING:
+                    self.assertIn(getattr(each.func.value, "id", None), made, place)
+                if isinstance(each, ast.Subscript) and not isinstance(each.ctx, ast.Load):
+                    self.assertIn(getattr(each.value, "id", None), made, place)
+                if isinstance(each, ast.Attribute) and not isinstance(each.ctx, ast.Load):
+                    self.assertEqual((node.name, each.value.id), ("__init__", "self"), place)
 
 
 if __name__ == "__main__":

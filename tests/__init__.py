@@ -1,0 +1,1 @@
+"""The tests of the package, each file for itself."""
