@@ -10,6 +10,8 @@ from missedparts.sums import Sum, sum_of
 
 MOST_CLOSED = 6
 MOST_TAKEN = 200
+# How many products are looked at one by one; more are told by all webs together, which takes longer, but ends early.
+MOST_ALONE = 400
 
 
 class Web:
@@ -140,11 +142,13 @@ def under_sum(machine, some):
 def _under_codes(machine, closed, most):
     """The kept products of what is under a machine and a closed set; None if they are more than most."""
     webs = [web_of(machine, codes) for codes in closed]
+    if len(webs) < 2:
+        return kept_of_webs(webs, machine.letters, most)
     found = []
     for web in webs:
-        kept = kept_of_webs([web], machine.letters, most)
+        # What is under one product alone may be more than most, and yet within a few products of the others.
+        kept = kept_of_webs([web], machine.letters, MOST_ALONE)
         if kept is None:
-            # What is under one product alone may be too much, and yet within a few products of the others.
             return kept_of_webs(webs, machine.letters, most)
         found.extend(kept)
     return kept_codes(found, most)

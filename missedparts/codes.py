@@ -53,10 +53,11 @@ def goal_in(codes, at, code):
 def goes_into(one, other):
     """Whether all texts of one product are texts of the other one."""
     at = 0
+    long = len(other)
     for code in one:
-        while at < len(other) and code & ~other[at]:
+        while at < long and code & ~other[at]:
             at = at + 1
-        if at == len(other):
+        if at == long:
             return False
         if not other[at] & STAR:
             at = at + 1

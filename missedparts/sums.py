@@ -74,21 +74,23 @@ class Sum:
     def beyond(self, other):
         """The least text of it that is none of the other one; None if there is none."""
         _need_sum_with(self, other)
-        start = _apart(self._codes, other.codes())
-        met = {start: ""}
-        row = [start] if start[0] else []
+        theirs = other.codes()
+        mine = _apart(self._codes, theirs)
+        met = {theirs: [mine]}
+        row = [("", mine, theirs)] if mine else []
         while row:
             longer = []
-            for state in row:
-                mine, theirs = state
+            for text, mine, theirs in row:
                 if not theirs:
-                    return met[state]
+                    return text
                 for letter in self._letters:
-                    code = letter_code(letter)
-                    goal = _apart(behind_letter(mine, code), behind_letter(theirs, code))
-                    if goal[0] and goal not in met:
-                        met[goal] = met[state] + letter
-                        longer.append(goal)
+                    left = behind_letter(theirs, letter_code(letter))
+                    goal = _apart(behind_letter(mine, letter_code(letter)), left)
+                    # What may follow here may follow a lesser text as well, if that one leaves no less of mine.
+                    before = met.setdefault(left, [])
+                    if goal and not any([is_closed_within(goal, each) for each in before]):
+                        before.append(goal)
+                        longer.append((text + letter, goal, left))
             row = longer
         return None
 
@@ -226,8 +228,8 @@ def _position_behind(codes, text):
 
 
 def _apart(mine, theirs):
-    """Those products of the one closed set that are not within the other one, and the other one."""
-    return tuple([codes for codes in mine if not goes_into_some(codes, theirs)]), theirs
+    """Those products of the one closed set that are not within the other one."""
+    return tuple([codes for codes in mine if not goes_into_some(codes, theirs)])
 
 
 def _out_of(closed, goals, answers):

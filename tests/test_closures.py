@@ -105,6 +105,19 @@ class Under(Case):
         for taken in range(5):
             self.assertEqual(under(no_c(5, [taken]), Sum("abc", [pieces, ("ab*",)])), Sum("abc", [("ab*",)]))
 
+    def test_one_by_one_and_all_together(self):
+        source = random.Random(5)
+        for _ in range(80):
+            letters = source.choice(["ab", "abc"])
+            machine = some_machine(source, letters, 6)
+            some = Sum(letters, [some_product(source, letters, 6) for _ in range(source.randint(2, 5))])
+            found = under(machine, some)
+            for alone in [0, 1, 3]:
+                with mock.patch.object(closures, "MOST_ALONE", alone):
+                    self.assertEqual(under(machine, some), found)
+        words = ["".join([source.choice("ab") for _ in range(30)]) for _ in range(5)]
+        self.assert_too_many("products", 60, under, counter("ab", 6, [3]), Sum.of("ab", words))
+
     def test_long_products(self):
         source = random.Random(2)
         text = "".join([source.choice("ab") for _ in range(60)])
