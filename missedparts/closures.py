@@ -49,13 +49,16 @@ class Web:
 
     def has_product(self, codes):
         """Whether all texts of a product over the letters are such parts."""
-        nodes = self._start
+        return self.behind(self._start, codes) != 0
+
+    def behind(self, nodes, codes):
+        """The nodes where one may stand behind any text of a product."""
         for code in codes:
             if code & STAR:
                 nodes = self._led_for_ever(nodes, code)
             else:
                 nodes = self.led(nodes, code)
-        return nodes != 0
+        return nodes
 
     def _led_for_ever(self, nodes, star):
         """The nodes where one may stand behind the letters of a star, read as often as one likes."""

@@ -97,14 +97,14 @@ def _pair_alike(one, other, number):
 
     Texts are told by the set of their parts of at most so many letters: these sets are few.
     """
-    texts = _taken_texts(one, number)
-    for parts, text in _taken_texts(other, number).items():
+    texts = taken_texts(one, number)
+    for parts, text in taken_texts(other, number).items():
         if parts in texts:
             return texts[parts], text
     return None
 
 
-def _taken_texts(machine, number):
+def taken_texts(machine, number):
     """For each set of parts of at most so many letters of a text that is taken a least text with these parts."""
     rows, kinds = machine.rows(), machine.kinds()
     sizes = [1]

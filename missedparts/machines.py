@@ -83,12 +83,7 @@ class Machine:
 
     def least(self):
         """The machine with the same texts that has one place for each class of alike places."""
-        classes = alike_classes(self._rows, self._kinds)
-        # The goals of any place of a class are in the same classes.
-        firsts = [classes.index(number) for number in range(max(classes) + 1)]
-        rows = [[classes[goal] for goal in self._rows[place]] for place in firsts]
-        kinds = [self._kinds[place] for place in firsts]
-        return _numbered_from(self._letters, rows, kinds, classes[0])
+        return least_of(self._letters, self._rows, self._kinds, 0)
 
     def __len__(self):
         return len(self._rows)
@@ -119,7 +114,7 @@ class Machine:
         return Machine(self._letters, self._rows, [not kind for kind in self._kinds])
 
     def _need_place(self, value):
-        if not _is_place(value, len(self._rows)):
+        if not is_place(value, len(self._rows)):
             raise InvalidPlace(value)
 
     def _led(self, place, text):
@@ -127,6 +122,44 @@ class Machine:
         for letter in text:
             place = self._rows[place][self._letters.index(letter)]
         return place
+
+
+class Marks:
+    """Sets of places of a machine, each told by a number with a bit for each place that is in it."""
+
+    def __init__(self, machine):
+        self._last = _bits([place for place, kind in enumerate(machine.kinds()) if kind])
+        self._bits = [[1 << goal for goal in row] for row in machine.rows()]
+        self._known = {}
+
+    def led(self, places, index):
+        """The goals of these places by the letter with this index."""
+        if (places, index) not in self._known:
+            found = 0
+            for place, goals in enumerate(self._bits):
+                if places >> place & 1:
+                    found = found | goals[index]
+            self._known[(places, index)] = found
+        return self._known[(places, index)]
+
+    def led_by_some(self, places, indices):
+        """The goals of these places by one of the letters with these indices."""
+        found = 0
+        for index in indices:
+            found = found | self.led(places, index)
+        return found
+
+    def stayed(self, places, indices):
+        """The places to which texts of the letters with these indices lead from these places."""
+        before = 0
+        while before != places:
+            before = places
+            places = places | self.led_by_some(places, indices)
+        return places
+
+    def some_take(self, places):
+        """Whether one of these places takes."""
+        return places & self._last != 0
 
 
 def is_same(one, other):
@@ -137,6 +170,16 @@ def is_same(one, other):
 def parting(one, other):
     """The least text that just one of both machines takes; None if there is none."""
     need_same_letters(one, other)
+    return _first_with_kinds(one, other, ((True, False), (False, True)))
+
+
+def least_of_both(one, other):
+    """The least text that both machines, with the same letters, take; None if there is none."""
+    return _first_with_kinds(one, other, ((True, True),))
+
+
+def _first_with_kinds(one, other, wanted):
+    """The least text that leads in two machines to places with kinds that are wanted together; None."""
     rows, other_rows = one.rows(), other.rows()
     kinds, other_kinds = one.kinds(), other.kinds()
     met = {(0, 0): ""}
@@ -145,7 +188,7 @@ def parting(one, other):
         longer = []
         for place, other_place in row:
             text = met[(place, other_place)]
-            if kinds[place] != other_kinds[other_place]:
+            if (kinds[place], other_kinds[other_place]) in wanted:
                 return text
             for letter, goal, other_goal in zip(one.letters, rows[place], other_rows[other_place]):
                 if (goal, other_goal) not in met:
@@ -195,6 +238,47 @@ def first_texts(letters, rows, start):
     return texts
 
 
+def _bits(places):
+    """The number with a bit for each of these places."""
+    return sum([1 << place for place in places])
+
+
+def met_from(start, goals_of, most):
+    """The list of the states that are come to from one, and for each the list of the numbers of its goals in it.
+
+    goals_of(state) is the list of its goals. TooMany if there are more states; if most is None there is no bound.
+    """
+    numbers = {start: 0}
+    rows = []
+    waiting = [start]
+    while waiting:
+        longer = []
+        for state in waiting:
+            goals = goals_of(state)
+            for goal in goals:
+                if goal not in numbers:
+                    numbers[goal] = len(numbers)
+                    longer.append(goal)
+            rows.append([numbers[goal] for goal in goals])
+        if most is not None and len(numbers) > most:
+            raise TooMany("places", most)
+        waiting = longer
+    return list(numbers), rows
+
+
+def least_of(letters, rows, kinds, start):
+    """The least machine that begins at this one of some places, from which all are come to; they may be many more."""
+    classes = alike_classes(rows, kinds)
+    # The goals of any place of a class are in the same classes.
+    firsts = {}
+    for place, number in enumerate(classes):
+        firsts.setdefault(number, place)
+    if len(firsts) > Machine.MOST_PLACES:
+        raise TooMany("places", Machine.MOST_PLACES)
+    made = [[classes[goal] for goal in rows[firsts[number]]] for number in range(len(firsts))]
+    return _numbered_from(letters, made, [kinds[firsts[number]] for number in range(len(firsts))], classes[start])
+
+
 def alike_classes(rows, kinds):
     """For each place the number of its class of alike places, from 0."""
     classes = [int(kind) for kind in kinds]
@@ -231,10 +315,11 @@ def _need_parts(letters, rows, kinds):
 def _is_row(value, many_letters, many_places):
     if not isinstance(value, (list, tuple)) or len(value) != many_letters:
         return False
-    return all([_is_place(goal, many_places) for goal in value])
+    return all([is_place(goal, many_places) for goal in value])
 
 
-def _is_place(value, many):
+def is_place(value, many):
+    """Whether any value is one of so many places."""
     return is_integer(value) and 0 <= value < many
 
 

@@ -90,9 +90,9 @@ def common_whole(one, other):
         letter = first if first_can and (first <= second or not second_can) else second
         letters.append(letter)
         if letter == first:
-            at += 1
+            at = at + 1
         if letter == second:
-            other_at += 1
+            other_at = other_at + 1
     return "".join(letters) + one[at:] + other[other_at:]
 
 

@@ -1,7 +1,7 @@
 """Products that two machines share: each text is a part of one that the one takes, and of one that the other does."""
 
 from missedparts.closures import Web, kept_of_webs, web_of
-from missedparts.codes import STAR, coded, letter_codes
+from missedparts.codes import STAR, coded, letter_codes, reduced_codes, told
 from missedparts.machines import need_two
 from missedparts.sums import Sum, is_product_over, sum_of
 
@@ -34,8 +34,52 @@ def do_share(one, other):
     return _web_of_pairs(one, other).start() != 0
 
 
+def some_shared(one, other):
+    """A shared product, for machines of any number of places; None if there is none."""
+    steps = _steps_of_pairs(one, other)
+    many = len(one) * len(other)
+    stars = _stars(letter_codes(one.letters))
+    ends = _ends_of_pairs(one, other)
+    met = {0: ()}
+    waiting = [0]
+    while waiting:
+        longer = []
+        for node in waiting:
+            if node in ends:
+                return told(reduced_codes(met[node]))
+            for code, goal in steps[node]:
+                if goal not in met:
+                    # A step that needs no letter leads to the node of a star, or from there to the pair behind it.
+                    piece = code if code or goal < many else stars[goal // many - 1]
+                    met[goal] = met[node] + (piece,) if piece else met[node]
+                    longer.append(goal)
+        waiting = longer
+    return None
+
+
+def pairs_come_to(one, other):
+    """The list of the pairs of places that are come to from both places 0 by letters and stars."""
+    steps = _steps_of_pairs(one, other)
+    goals = [[goal for _, goal in row] for row in steps]
+    return [divmod(node, len(other)) for node in sorted(_reached_from(goals, 0)) if node < len(one) * len(other)]
+
+
 def _web_of_pairs(one, other):
-    """The web of the texts of all shared products.
+    """The web of the texts of all shared products."""
+    return Web(one.letters, _steps_of_pairs(one, other), _ends_of_pairs(one, other))
+
+
+def _ends_of_pairs(one, other):
+    """The nodes of the pairs of places that both take."""
+    kinds, other_kinds = one.kinds(), other.kinds()
+    return [
+        place * len(other) + other_place for place, kind in enumerate(kinds)
+        for other_place, other_kind in enumerate(other_kinds) if kind and other_kind
+    ]
+
+
+def _steps_of_pairs(one, other):
+    """The steps between the pairs of places, as those of a web.
 
     Its nodes are the pairs of places, and behind them, for each star, a node ahead of each pair: this one has been
     come to by the star, of which any letters may still be read.
@@ -52,9 +96,7 @@ def _web_of_pairs(one, other):
                 (0, ahead + goal * len(other) + other_goal)
                 for goal in goals[pair[0]] for other_goal in other_goals[pair[1]]
             ])
-    kinds, other_kinds = one.kinds(), other.kinds()
-    ends = [at for at, pair in enumerate(pairs) if kinds[pair[0]] and other_kinds[pair[1]]]
-    return Web(one.letters, steps, ends)
+    return steps
 
 
 def _letter_steps(one, other, pair, codes):

@@ -6,7 +6,7 @@ from missedparts.codes import (
     letter_code, letter_codes, met_codes, reduced_codes, told, worked_out,
 )
 from missedparts.errors import InvalidLetters, InvalidProducts, InvalidSum, InvalidTexts, TooMany
-from missedparts.machines import Machine, need_same_letters, need_text
+from missedparts.machines import Machine, met_from, need_same_letters, need_text
 from missedparts.products import MOST_PIECES, is_product
 
 MOST_OUT = 200
@@ -127,22 +127,13 @@ class Sum:
 
     def machine(self):
         """The least machine that takes just its texts."""
-        numbers = {self._codes: 0}
-        rows = []
-        waiting = [self._codes]
-        while waiting:
-            longer = []
-            for closed in waiting:
-                goals = [behind_letter(closed, code) for code in letter_codes(self._letters)]
-                for goal in goals:
-                    if goal not in numbers:
-                        numbers[goal] = len(numbers)
-                        longer.append(goal)
-                rows.append([numbers[goal] for goal in goals])
-            if len(numbers) > Machine.MOST_PLACES:
-                raise TooMany("places", Machine.MOST_PLACES)
-            waiting = longer
-        return Machine(self._letters, rows, [closed != () for closed in numbers])
+        codes = letter_codes(self._letters)
+
+        def goals_of(closed):
+            return [behind_letter(closed, code) for code in codes]
+
+        sets, rows = met_from(self._codes, goals_of, Machine.MOST_PLACES)
+        return Machine(self._letters, rows, [closed != () for closed in sets])
 
     def __len__(self):
         return len(self._products)

@@ -21,6 +21,8 @@ CHANGING = set("append clear extend insert pop remove reverse setdefault update 
 SIGNS = set(
     "__eq__ __ne__ __lt__ __le__ __gt__ __ge__ __add__ __sub__ __mul__ __floordiv__ __mod__ __and__ __or__ __xor__ "
     "__neg__ __invert__ __abs__ __bool__ __contains__ __getitem__ __len__ __repr__ __str__".split())
+# These may change their object.
+CHANGING_SIGNS = set("__init__ __iter__ __enter__ __exit__ __iadd__ __isub__".split())
 
 
 def sources():
@@ -184,7 +186,7 @@ class Words(unittest.TestCase):
         barred = {"register", "mro", "elements", "open", "input", "law", "id", "vars", "dir", "type", "exec", "eval"}
         for path, tree in trees():
             for name in bound_in(tree):
-                self.assertTrue(name.isascii() and not name.startswith("__") or name in SIGNS | {"__init__"}, (path, name))
+                self.assertTrue(name.isascii() and not name.startswith("__") or name in SIGNS | CHANGING_SIGNS, (path, name))
                 self.assertNotIn(name, barred, path)
 
 
