@@ -52,7 +52,6 @@ def is_true(claim):
 
 def paper_of(claim):
     """A paper that shows the claim; None if it is not true."""
-    _need_claim(claim)
     if not is_true(claim):
         return None
     action = MAKERS[claim[0]]
@@ -246,7 +245,7 @@ def _shows_sure(told, wish, text, value):
     if not isinstance(value, tuple) or len(value) != 2:
         return False
     whole, some = value
-    if not is_over(whole, told.letters) or not told.takes(whole) or not is_part(text, whole):
+    if whole not in told or not is_part(text, whole):
         return False
     if not isinstance(some, Sum) or text in some:
         return False
@@ -254,7 +253,7 @@ def _shows_sure(told, wish, text, value):
 
 
 def _shows_unsure(told, wish, text, value):
-    return is_over(value, told.letters) and value in told and value not in wish and is_part(text, value)
+    return value in told and value not in wish and is_part(text, value)
 
 
 def _shows_clear(one, other, line, value):
@@ -268,10 +267,8 @@ def _shows_clear(one, other, line, value):
 def _shows_muddled(one, other, line, value):
     if not isinstance(value, tuple) or len(value) != 3:
         return False
-    if not all([is_over(text, one.letters) for text in value]):
-        return False
     text, mine, theirs = value
-    if not one.takes(mine) or not other.takes(theirs):
+    if not is_over(text, one.letters) or mine not in one or theirs not in other:
         return False
     return is_told_as(line, mine, text) and is_told_as(line, theirs, text)
 

@@ -133,7 +133,8 @@ class Fits(Case):
             self.assert_raised(InvalidTest, {"value": value}, fits, value, None)
             self.assert_raised(InvalidTest, {"value": value}, letters_of, value)
         for value in OTHERS + [0, (), ("a",), "B"]:
-            self.assert_raised(InvalidText, {"value": value}, fits, ONCE, value)
+            for test in [ONCE, ALWAYS, NEVER, ("not", ALWAYS), ("part", "")]:
+                self.assert_raised(InvalidText, {"value": value}, fits, test, value)
 
 
 class TestMachine(Case):
@@ -170,7 +171,9 @@ class TestMachine(Case):
         self.assertEqual(len(made_machine("ab", ("part", "aaaaaa"))), 7)
         for test, many in [(just_these(["aaaaaa", "bbbbb"]), 42), (just_these(["aaaaaa", "bbbb"]), 35),
                            (just_these(["a", "bbb", "cccc"]), 40), (just_these(["a", "bb", "cccccc"]), 42),
-                           (("any", (just_these(["a", "bbb", "cccc"]), ALWAYS)), 1)]:
+                           (("any", (just_these(["aaaaaa", "bbbbb"]), ALWAYS)), 1),
+                           (("any", (just_these(["aaaaaa", "bbbbb"]), ("not", just_these(["aaaaaa", "bbbbb"])))), 1),
+                           (("all", (just_these(["aaaaaa", "bbbbb"]), ("part", "aaaaaa"))), 42)]:
             if many <= 40:
                 self.assertEqual(len(made_machine("abc", test)), many)
             else:

@@ -201,6 +201,37 @@ class Forms(unittest.TestCase):
                 if isinstance(node, (ast.Set, ast.SetComp)):
                     self.fail((path, node.lineno))
 
+    def test_sameness_is_asked_of_single_values_alone(self):
+        for path, tree in trees():
+            for node in ast.walk(tree):
+                if isinstance(node, ast.Compare):
+                    for sign, other in zip(node.ops, node.comparators):
+                        if isinstance(sign, (ast.Is, ast.IsNot)):
+                            self.assertIn(getattr(other, "value", 0), [None, True, False], (path, node.lineno))
+                            self.assertIsInstance(other, ast.Constant, (path, node.lineno))
+
+    def test_tables_have_functions_of_their_own_file(self):
+        for path, tree in trees():
+            above = set()
+            for node in tree.body:
+                if isinstance(node, ast.Assign):
+                    names = {each.id for each in ast.walk(node.value) if isinstance(each, ast.Name)}
+                    self.assertEqual(names - above, set(), (path, node.lineno))
+                    self.assertFalse([each for each in ast.walk(node.value) if isinstance(each, ast.Call)], (path, node.lineno))
+                if isinstance(node, ast.FunctionDef):
+                    above.add(node.name)
+
+    def test_what_errors_are_caught(self):
+        own = {node.name for _, tree in trees() for node in tree.body if isinstance(node, ast.ClassDef)}
+        for path, tree in trees():
+            for node in ast.walk(tree):
+                if isinstance(node, ast.ExceptHandler):
+                    kinds = node.type.elts if isinstance(node.type, ast.Tuple) else [node.type]
+                    self.assertEqual({kind.id for kind in kinds} - own, set(), (path, node.lineno))
+                if isinstance(node, ast.Raise):
+                    self.assertIsInstance(node.exc, ast.Call, (path, node.lineno))
+                    self.assertIn(node.exc.func.id, own | {"TypeError"}, (path, node.lineno))
+
     def test_only_some_decorators(self):
         for path, tree in trees():
             for node in ast.walk(tree):

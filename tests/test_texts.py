@@ -112,6 +112,11 @@ class ReadMachine(Case):
         self.assert_raised(InvalidRow, {"row": 42}, read_machine, "\n".join(rows) + "\nno 40 to 0\n")
         self.assert_raised(InvalidRow, {"row": 42}, read_machine, "\n".join(rows) + "\n\n")
         self.assert_raised(InvalidRow, {"row": 41}, read_machine, "\n".join(rows))
+        # Ahead of a place that is not come to, and of goals that are no places.
+        lost = [rows[0], "no 0 to 2"] + rows[2:] + ["no 40 to 0", ""]
+        self.assert_raised(InvalidRow, {"row": 42}, read_machine, "\n".join(lost))
+        self.assert_raised(InvalidRow, {"row": 3}, read_machine, "letters ab\nno 0 to 39 0\nno 1 to 0 40\n")
+        self.assert_raised(InvalidRow, {"row": 2}, read_machine, "letters ab\nno 0 to 39 0\nno 1 to 0 39\n")
         self.assert_raised(InvalidRow, {"row": 41}, read_machine, "\n".join(rows[:-1] + ["no 39 to 40", ""]))
 
     def test_any_value(self):
