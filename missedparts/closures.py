@@ -110,8 +110,8 @@ def web_of(machine, codes):
     steps = []
     for at in range(len(codes) + 1):
         steps.extend(_steps_at(machine, codes, at))
-    kinds = machine.kinds()
-    return Web(machine.letters, steps, [node for node in range(len(steps)) if kinds[node % many]])
+    last = [place for place, kind in enumerate(machine.kinds()) if kind]
+    return Web(machine.letters, steps, [at * many + place for at in range(len(codes) + 1) for place in last])
 
 
 def _steps_at(machine, codes, at):
