@@ -10,6 +10,9 @@ from missedparts.sums import Sum
 
 MOST_IN_TEST = 6
 MOST_TESTED = 20
+# How many states are looked at as they come, and with how many others each one is compared.
+MOST_TRIED = 4000
+MOST_COMPARED = 16
 # What each text fits, and what none does.
 ALWAYS = ("all", ())
 NEVER = ("any", ())
@@ -84,7 +87,7 @@ def test_of(sums):
 
 def is_parted_by(one, other, test):
     """The same as does_part for any test and two machines with the same letters."""
-    return _do_all_fit(one, test) and _do_all_fit(other, ("not", test))
+    return not _does_some_fit(one, ("not", test)) and not _does_some_fit(other, test)
 
 
 def test_by_letters(one, other, number):
@@ -97,17 +100,22 @@ def test_by_letters(one, other, number):
 
 def texts_in(test):
     """The list of the unlike texts of a test."""
+    return list(_wanted_in(test))
+
+
+def _wanted_in(test):
+    """For each text of a test a dict of True for each way in which it helps: True to be a part, False to be none."""
     found = {}
-    waiting = [test]
+    waiting = [(test, True)]
     while waiting:
-        word, about = waiting.pop()
+        (word, about), wanted = waiting.pop()
         if word == "part":
-            found[about] = True
+            found.setdefault(about, {})[wanted] = True
         elif word == "not":
-            waiting.append(about)
+            waiting.append((about, not wanted))
         else:
-            waiting.extend(about)
-    return list(found)
+            waiting.extend([(each, wanted) for each in about])
+    return found
 
 
 class Reading:
@@ -118,9 +126,11 @@ class Reading:
 
     def __init__(self, test, letters):
         self._test = test
-        texts = texts_in(test)
-        self._texts = [text for text in texts if is_over(text, letters)]
-        self._never = {text: False for text in texts if not is_over(text, letters)}
+        wanted = _wanted_in(test)
+        self._texts = [text for text in wanted if is_over(text, letters)]
+        self._never = {text: False for text in wanted if not is_over(text, letters)}
+        self._more_helps = [True in wanted[text] for text in self._texts]
+        self._less_helps = [False in wanted[text] for text in self._texts]
 
     def start(self):
         """The state ahead of all letters."""
@@ -141,6 +151,12 @@ class Reading:
     def worth(self, state):
         """The same as far as it is plain whatever letters follow; None otherwise, though perhaps none changes it."""
         return _fits(self._test, self._known(state, None))
+
+    def is_no_better(self, state, other):
+        """Whether all texts that make the test fit behind the one state do so behind the other one, too."""
+        if any([helps and at > other_at for helps, at, other_at in zip(self._more_helps, state, other)]):
+            return False
+        return not any([helps and at < other_at for helps, at, other_at in zip(self._less_helps, state, other)])
 
     def _known(self, state, still):
         """Which texts are parts, where for those that may still be met another value stands."""
@@ -204,9 +220,42 @@ class Classes:
         return least_of(letters, self._goals, self._takes, start)
 
 
-def _do_all_fit(machine, test):
-    """Whether each text that the machine takes fits the test."""
+def _does_some_fit(machine, test):
+    """Whether a text that the machine takes fits the test."""
     reading = Reading(test, machine.letters)
+    found = _is_soon_found(machine, reading)
+    return _is_found(machine, reading) if found is None else found
+
+
+def _is_soon_found(machine, reading):
+    """The same as _is_found if it is known behind a few states, which are looked at far ahead first; None if not.
+
+    A place need not be looked at behind a state that is no better than another one behind which it is.
+    """
+    rows, kinds = machine.rows(), machine.kinds()
+    ends = [machine.at(place).first_taken() is not None for place in range(len(machine))]
+    known = [[] for _ in rows]
+    known[0].append(reading.start())
+    waiting = [(0, reading.start())]
+    for _ in range(MOST_TRIED):
+        if not waiting:
+            return False
+        place, state = waiting.pop()
+        worth = reading.worth(state)
+        if ends[place] and worth or kinds[place] and reading.fits_at(state):
+            return True
+        if ends[place] and worth is None:
+            for letter, goal in zip(machine.letters, rows[place]):
+                behind = reading.behind(state, letter)
+                others = known[goal][:MOST_COMPARED] + known[goal][-MOST_COMPARED:]
+                if not any([reading.is_no_better(behind, other) for other in others]):
+                    known[goal].append(behind)
+                    waiting.append((goal, behind))
+    return None
+
+
+def _is_found(machine, reading):
+    """Whether a text that the machine takes fits the test that is read."""
     marks = Marks(machine)
     layers = [{} for _ in range(reading.last() + 1)]
     layers[0][reading.start()] = 1
@@ -216,16 +265,16 @@ def _do_all_fit(machine, test):
             goals = [reading.behind(state, letter) for letter in machine.letters]
             places = marks.stayed(places, [index for index, goal in enumerate(goals) if goal == state])
             worth = reading.worth(state)
-            if worth is False and marks.some_take(marks.stayed(places, list(range(len(goals))))):
-                return False
+            if worth and marks.some_take(marks.stayed(places, list(range(len(goals))))):
+                return True
             if worth is None:
-                if marks.some_take(places) and not reading.fits_at(state):
-                    return False
+                if marks.some_take(places) and reading.fits_at(state):
+                    return True
                 for index, goal in enumerate(goals):
                     if goal != state:
                         there = layers[sum(goal)]
                         there[goal] = there.get(goal, 0) | marks.led(places, index)
-    return True
+    return False
 
 
 def _known_parts(machine, number, texts):

@@ -1,7 +1,9 @@
 """Tests of texts: examples, edges, plain readings, wrong inputs."""
 
 import random
+from unittest import mock
 
+from missedparts import checks
 from missedparts.checks import (
     does_part, fits, is_parted_by, is_test, letters_of, test_by_letters as made_by_letters, test_machine as made_machine,
     test_of as made_of,
@@ -209,7 +211,10 @@ class DoesPart(Case):
             texts = source.sample(texts_over(letters, 3) + ["z"], 4)
             test = some_test(source, texts, 3)
             one, other = some_machine(source, letters, 4), some_machine(source, letters, 4)
-            found = does_part(one, other, test)
+            # However few states are looked at as they come, and whatever they are compared with, the answer is the same.
+            with mock.patch.multiple(checks, MOST_TRIED=source.choice([0, 1, 2, 5, 20]), MOST_COMPARED=source.choice([1, 16])):
+                found = does_part(one, other, test)
+            self.assertIs(does_part(one, other, test), found)
             both[found] += 1
             try:
                 fit = made_machine(letters, test)
@@ -218,6 +223,22 @@ class DoesPart(Case):
             apart = least_of_both(one, ~fit), least_of_both(other, fit)
             self.assertIs(found, apart == (None, None), (one, other, test))
         self.assertGreater(min(both.values()), 100)
+
+    def test_more_texts(self):
+        source = random.Random(8)
+        both = {True: 0, False: 0}
+        for _ in range(300):
+            letters = source.choice(["ab", "abc"])
+            test = some_test(source, source.sample(texts_over(letters, 5)[1:], 8), 4)
+            one, other = some_machine(source, letters, 12), some_machine(source, letters, 12)
+            found = does_part(one, other, test)
+            both[found] += 1
+            with mock.patch.object(checks, "MOST_TRIED", 0):
+                self.assertIs(does_part(one, other, test), found)
+            if found:
+                for text in texts_over(letters, 5):
+                    self.assertFalse(one.takes(text) and not fits_plain(test, text) or other.takes(text) and fits_plain(test, text))
+        self.assertGreater(min(both.values()), 5)
 
     def test_machines_of_tests(self):
         source = random.Random(4)
