@@ -30,15 +30,25 @@ class Desk:
         # Both machines as they were ahead of each change. The list itself never changes, so that it can be kept.
         self._past = []
 
+    # OtherLetters assigns attributes of these two names, which is right only if every property so called has a setter.
+    # A desk changes only by what can be taken back, so its setters refuse.
     @property
     def one(self):
         """The one machine, as it stands."""
         return self._one
 
+    @one.setter
+    def one(self, value):
+        raise AttributeError("one is told by a desk, not assigned")
+
     @property
     def other(self):
         """The other machine, as it stands."""
         return self._other
+
+    @other.setter
+    def other(self, value):
+        raise AttributeError("other is told by a desk, not assigned")
 
     def __getitem__(self, text):
         by_one, by_other = self._one.takes(text), self._other.takes(text)

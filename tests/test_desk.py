@@ -81,6 +81,23 @@ class Stands(Case):
         for other in [counter("abc", 2, []), chain("a", 3), counter("xy", 40, [])]:
             self.assert_raised(OtherLetters, {"one": "ab", "other": other.letters}, Desk, SINGLE, other)
 
+    def test_one_and_other_are_told_and_not_assigned(self):
+        desk = Desk(SINGLE, PAIRS)
+        desk.turn("one", 2)
+        for name in ["one", "other"]:
+            self.assertIsInstance(vars(Desk)[name], property)
+            for value in [PAIRS, getattr(desk, name), None]:
+                self.assertRaises(AttributeError, setattr, desk, name, value)
+            self.assertRaises(AttributeError, delattr, desk, name)
+        self.assert_stands(desk, turned(SINGLE, [2]), PAIRS, 1)
+        # Attributes of the same names of an error, beside the desk that raised it.
+        with self.assertRaises(OtherLetters) as held:
+            desk += chain("a", 3)
+        self.assertEqual((held.exception.one, held.exception.other), ("ab", "a"))
+        held.exception.one, held.exception.other = "x", "y"
+        self.assertEqual(vars(held.exception), {"one": "x", "other": "y"})
+        self.assert_stands(desk, turned(SINGLE, [2]), PAIRS, 1)
+
     def test_texts(self):
         desk = Desk(ALL, NOTHING)
         for value in OTHERS + [0, "c", "abc", "A", "-", ("a",), ["a"], (), slice(0, 1)]:

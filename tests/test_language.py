@@ -58,6 +58,34 @@ def methods():
     return found
 
 
+def is_property(node):
+    """Whether what stands in the body of a class is a property; its setter is another such node."""
+    return isinstance(node, ast.FunctionDef) and "property" in [ast.unparse(each) for each in node.decorator_list]
+
+
+def setters_of(kind):
+    """The names of the properties of a class that have a setter."""
+    return {node.name for node in kind.body if isinstance(node, ast.FunctionDef)
+            and f"{node.name}.setter" in [ast.unparse(each) for each in node.decorator_list]}
+
+
+def properties_without_setter(some_trees):
+    """The names of properties that at least one class has without a setter, even if another class has one."""
+    kinds = [node for _, tree in some_trees for node in ast.walk(tree) if isinstance(node, ast.ClassDef)]
+    return {node.name for kind in kinds for node in kind.body if is_property(node) and node.name not in setters_of(kind)}
+
+
+def assigned_attributes(tree):
+    """Each place of a file where an attribute is assigned (or deleted), in whatever way: by =, +=, for, with, a star."""
+    return [each for each in ast.walk(tree) if isinstance(each, ast.Attribute) and not isinstance(each.ctx, ast.Load)]
+
+
+def assigned_without_setter(some_trees):
+    """Where an attribute is assigned that has the name of a property without a setter: file, row, name."""
+    without = properties_without_setter(some_trees)
+    return [(path, each.lineno, each.attr) for path, tree in some_trees for each in assigned_attributes(tree) if each.attr in without]
+
+
 def called_by_name():
     """For each file the functions, and the constructors, that a name in it means."""
     own = {path.stem: {} for path, _ in trees()}
@@ -230,14 +258,14 @@ class Forms(unittest.TestCase):
                     self.assertEqual({kind.id for kind in kinds} - own, set(), (path, node.lineno))
                 if isinstance(node, ast.Raise):
                     self.assertIsInstance(node.exc, ast.Call, (path, node.lineno))
-                    self.assertIn(node.exc.func.id, own | {"TypeError"}, (path, node.lineno))
+                    self.assertIn(node.exc.func.id, own | {"AttributeError", "TypeError"}, (path, node.lineno))
 
     def test_only_some_decorators(self):
         for path, tree in trees():
             for node in ast.walk(tree):
                 if isinstance(node, ast.FunctionDef):
-                    names = [each.id for each in node.decorator_list]
-                    self.assertIn(names, [[], ["property"], ["staticmethod"]], (path, node.name))
+                    names = [ast.unparse(each) for each in node.decorator_list]
+                    self.assertIn(names, [[], ["property"], ["staticmethod"], [f"{node.name}.setter"]], (path, node.name))
 
     def test_sets_are_only_counted_and_sorted(self):
         for path, tree in trees():
@@ -267,6 +295,73 @@ class Forms(unittest.TestCase):
                     self.assertIn(getattr(each.value, "id", None), made, place)
                 if isinstance(each, ast.Attribute) and not isinstance(each.ctx, ast.Load):
                     self.assertEqual((node.name, each.value.id), ("__init__", "self"), place)
+
+
+# A class with a property, a setter of it, and a class with an attribute of the same name.
+SHELF = """
+class Shelf:
+    @property
+    def top(self):
+        return self._top
+"""
+SETTER = """
+    @top.setter
+    def top(self, value):
+        self._top = value
+"""
+BOX = """
+class Box:
+    def __init__(self, top):
+        self.top = top
+"""
+
+
+class Properties(unittest.TestCase):
+    def test_what_is_assigned_has_the_name_of_no_property_without_a_setter(self):
+        self.assertEqual(assigned_without_setter(trees()), [])
+
+    def test_that_such_a_place_is_found(self):
+        def found(*texts):
+            return assigned_without_setter([(at, ast.parse(text)) for at, text in enumerate(texts)])
+        self.assertEqual(found(SHELF, BOX), [(1, 4, "top")])
+        self.assertEqual(found(BOX + SHELF), [(0, 4, "top")])
+        self.assertEqual(found(SHELF + SETTER, BOX), [])
+        # One class with the setter does not make up for another one that lacks it.
+        self.assertEqual(found(SHELF + SETTER, BOX, SHELF.replace("Shelf", "Desk")), [(1, 4, "top")])
+        self.assertEqual(found(SHELF, BOX.replace("self.top", "self.low")), [])
+        for row in ["box.top += 1", "a, (box.top, *b) = 1, (2, 3)", "for box.top in a: pass", "a = box.top = 1", "box.top: int = 1", "del box.top"]:
+            self.assertEqual(found(SHELF, row), [(1, 1, "top")], row)
+        for row in ["box.top[0] = 1", "box.top.low = 1", "top = box.top", "box.top()"]:
+            self.assertEqual(found(SHELF, row), [], row)
+
+    def test_the_errors_and_the_desk_have_these_names_in_common(self):
+        assigned = {each.attr for path, tree in trees() if path.stem == "errors" for each in assigned_attributes(tree)}
+        told = {node.name for path, tree in trees() if path.stem == "desk" for node in ast.walk(tree) if is_property(node)}
+        self.assertEqual(assigned & told, {"one", "other"})
+
+    def test_a_setter_stands_straight_below_its_property(self):
+        for path, tree in trees():
+            for kind in [node for node in ast.walk(tree) if isinstance(node, ast.ClassDef)]:
+                for ahead, node in zip([None] + kind.body, kind.body):
+                    if getattr(node, "name", "") in setters_of(kind) and not is_property(node):
+                        self.assertTrue(is_property(ahead) and ahead.name == node.name, (path, node.lineno))
+                        self.assertEqual(ast.unparse(node.args), "self, value", (path, node.lineno))
+
+    def test_no_property_is_assigned_in_a_loop(self):
+        names = {node.name for _, tree in trees() for node in ast.walk(tree) if is_property(node)}
+        for path, tree in trees():
+            for loop in [node for node in ast.walk(tree) if isinstance(node, ast.For)]:
+                self.assertEqual([each.lineno for each in assigned_attributes(loop) if each.attr in names], [], path)
+
+    def test_no_method_is_read_off_a_class(self):
+        # Else an attribute could not have the name of another class's property, with or without a setter.
+        kinds = {node.name: node for _, tree in trees() for node in tree.body if isinstance(node, ast.ClassDef)}
+        plain = {(name, node.name) for name, kind in kinds.items() for node in kind.body
+                 if isinstance(node, ast.FunctionDef) and [ast.unparse(each) for each in node.decorator_list] != ["staticmethod"]}
+        for path, tree in trees():
+            for each in ast.walk(tree):
+                if isinstance(each, ast.Attribute):
+                    self.assertNotIn((ast.unparse(each.value), each.attr), plain, (path, each.lineno))
 
 
 if __name__ == "__main__":
