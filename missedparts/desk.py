@@ -25,33 +25,14 @@ class Desk:
             if not isinstance(machine, Machine):
                 raise InvalidMachine(machine)
         need_same_letters(one, other)
-        self._one = one
-        self._other = other
+        # Attributes, no properties: OtherLetters, which signs raise, assigns attributes of the same names.
+        self.one = one
+        self.other = other
         # Both machines as they were ahead of each change. The list itself never changes, so that it can be kept.
         self._past = []
 
-    # OtherLetters assigns attributes of these two names, which is right only if every property so called has a setter.
-    # A desk changes only by what can be taken back, so its setters refuse.
-    @property
-    def one(self):
-        """The one machine, as it stands."""
-        return self._one
-
-    @one.setter
-    def one(self, value):
-        raise AttributeError("one is told by a desk, not assigned")
-
-    @property
-    def other(self):
-        """The other machine, as it stands."""
-        return self._other
-
-    @other.setter
-    def other(self, value):
-        raise AttributeError("other is told by a desk, not assigned")
-
     def __getitem__(self, text):
-        by_one, by_other = self._one.takes(text), self._other.takes(text)
+        by_one, by_other = self.one.takes(text), self.other.takes(text)
         if by_one and by_other:
             return "both"
         if by_one:
@@ -62,17 +43,17 @@ class Desk:
         raise TypeError("a desk is not iterated over")
 
     def __contains__(self, value):
-        return value in self._one or value in self._other
+        return value in self.one or value in self.other
 
     def __len__(self):
         return len(self._past)
 
     def __iadd__(self, machine):
-        self._change(self._one | machine, self._other)
+        self._change(self.one | machine, self.other)
         return self
 
     def __isub__(self, machine):
-        self._change(self._one - machine, self._other)
+        self._change(self.one - machine, self.other)
         return self
 
     def turn(self, which, place):
@@ -88,13 +69,13 @@ class Desk:
 
     def swap(self):
         """One becomes other, and other one."""
-        self._change(self._other, self._one)
+        self._change(self.other, self.one)
 
     def undo(self):
         """Take the last change back."""
         if not self._past:
             raise NothingToUndo()
-        self._one, self._other = self._past[-1]
+        self.one, self.other = self._past[-1]
         self._past = self._past[:-1]
 
     def do(self, command):
@@ -103,11 +84,11 @@ class Desk:
         form = FORMS.get(words[0])
         if form is None or len(words) != len(form) + 1:
             raise InvalidCommand(command)
-        values = [_value_of(kind, word, self._one.letters) for kind, word in zip(form, words[1:])]
+        values = [_value_of(kind, word, self.one.letters) for kind, word in zip(form, words[1:])]
         if any([value is None for value in values]):
             raise InvalidCommand(command)
         if words[0] == "depth":
-            many = depth(self._one, self._other)
+            many = depth(self.one, self.other)
             return "endless" if many is None else str(many)
         if words[0] == "takes":
             return self[values[0]]
@@ -118,13 +99,13 @@ class Desk:
 
     def do_all(self, *commands):
         """The list of the answers to some commands; if one fails, none has an effect."""
-        one, other, past = self._one, self._other, self._past
+        one, other, past = self.one, self.other, self._past
         answers = []
         for position, command in enumerate(commands):
             try:
                 answers.append(self.do(command))
             except (PartsError, StateError, LimitError) as error:
-                self._one, self._other, self._past = one, other, past
+                self.one, self.other, self._past = one, other, past
                 raise CommandFailed(position) from error
         return answers
 
@@ -139,25 +120,25 @@ class Desk:
             self.undo()
 
     def _is_in_level(self, number, text):
-        found = levels(self._one, self._other)
+        found = levels(self.one, self.other)
         return found is not None and number <= len(found) and text in found[number - 1]
 
     def _which(self, value):
         """The machine that is called so."""
         if not _is_which(value):
             raise InvalidCommand(value)
-        return self._one if value == "one" else self._other
+        return self.one if value == "one" else self.other
 
     def _change_which(self, which, machine):
         if which == "one":
-            self._change(machine, self._other)
+            self._change(machine, self.other)
         else:
-            self._change(self._one, machine)
+            self._change(self.one, machine)
 
     def _change(self, one, other):
-        self._past = self._past + [(self._one, self._other)]
-        self._one = one
-        self._other = other
+        self._past = self._past + [(self.one, self.other)]
+        self.one = one
+        self.other = other
 
 
 class Trial:
@@ -171,15 +152,15 @@ class Trial:
 
     def __enter__(self):
         desk = self._desk
-        self._one = desk._one
-        self._other = desk._other
+        self._one = desk.one
+        self._other = desk.other
         self._past = desk._past
         return desk
 
     def __exit__(self, kind, value, trace):
         desk = self._desk
-        desk._one = self._one
-        desk._other = self._other
+        desk.one = self._one
+        desk.other = self._other
         desk._past = self._past
 
 

@@ -81,22 +81,32 @@ class Stands(Case):
         for other in [counter("abc", 2, []), chain("a", 3), counter("xy", 40, [])]:
             self.assert_raised(OtherLetters, {"one": "ab", "other": other.letters}, Desk, SINGLE, other)
 
-    def test_one_and_other_are_told_and_not_assigned(self):
+    def test_one_and_other_are_told_as_they_stand_whenever_they_are_read(self):
         desk = Desk(SINGLE, PAIRS)
-        desk.turn("one", 2)
-        for name in ["one", "other"]:
-            self.assertIsInstance(vars(Desk)[name], property)
-            for value in [PAIRS, getattr(desk, name), None]:
-                self.assertRaises(AttributeError, setattr, desk, name, value)
-            self.assertRaises(AttributeError, delattr, desk, name)
-        self.assert_stands(desk, turned(SINGLE, [2]), PAIRS, 1)
-        # Attributes of the same names of an error, beside the desk that raised it.
-        with self.assertRaises(OtherLetters) as held:
-            desk += chain("a", 3)
-        self.assertEqual((held.exception.one, held.exception.other), ("ab", "a"))
-        held.exception.one, held.exception.other = "x", "y"
-        self.assertEqual(vars(held.exception), {"one": "x", "other": "y"})
-        self.assert_stands(desk, turned(SINGLE, [2]), PAIRS, 1)
+        first = (desk.one, desk.other)
+        with_last = SINGLE | LAST
+        for change, one, other in [
+                (lambda: desk.turn("one", 2), turned(SINGLE, [2]), PAIRS), (lambda: desk.swap(), PAIRS, turned(SINGLE, [2])),
+                (lambda: desk.lead("other", 2, "b", 0), PAIRS, redirected(turned(SINGLE, [2]), 2, "b", 0)),
+                (lambda: desk.do("undo"), PAIRS, turned(SINGLE, [2])), (lambda: desk.do_all("undo", "undo"), SINGLE, PAIRS),
+                (lambda: desk.__iadd__(LAST), with_last, PAIRS), (lambda: desk.__isub__(PAIRS), with_last - PAIRS, PAIRS),
+                (lambda: tried(desk, lambda held: held.swap()), with_last - PAIRS, PAIRS), (lambda: desk.undo(), with_last, PAIRS)]:
+            change()
+            for _ in range(2):
+                self.assertEqual((desk.one, desk.other), (one, other))
+        # What was told ahead of the changes is as it was.
+        self.assertEqual(first, (SINGLE, PAIRS))
+
+    def test_one_and_other_of_an_error_beside_those_of_a_desk(self):
+        desk = Desk(SINGLE, PAIRS)
+        for more in [chain("a", 3), counter("abc", 2, [])]:
+            for asked in [desk.__iadd__, desk.__isub__]:
+                with self.assertRaises(OtherLetters) as held:
+                    asked(more)
+                self.assertEqual(vars(held.exception), {"one": "ab", "other": more.letters})
+                held.exception.one, held.exception.other = "x", "y"
+                self.assertEqual(vars(held.exception), {"one": "x", "other": "y"})
+                self.assert_stands(desk, SINGLE, PAIRS, 0)
 
     def test_texts(self):
         desk = Desk(ALL, NOTHING)

@@ -17,12 +17,14 @@ METHODS = set(
     "join keys ljust lower lstrip partition pop remove replace reverse rfind rjust rpartition rsplit rstrip setdefault "
     "split splitlines startswith strip update upper values zfill bit_length encode".split())
 CHANGING = set("append clear extend insert pop remove reverse setdefault update add discard".split())
+COUNTING = "add sub mul floordiv mod pow and or xor lshift rshift".split()
 # What runs without being called by its name: it may change nothing but what it has made, and call nothing it is passed.
 SIGNS = set(
-    "__eq__ __ne__ __lt__ __le__ __gt__ __ge__ __add__ __sub__ __mul__ __floordiv__ __mod__ __and__ __or__ __xor__ "
-    "__neg__ __invert__ __abs__ __bool__ __contains__ __getitem__ __len__ __repr__ __str__".split())
-# These may change their object.
-CHANGING_SIGNS = set("__init__ __iter__ __enter__ __exit__ __iadd__ __isub__".split())
+    "__eq__ __ne__ __lt__ __le__ __gt__ __ge__ __neg__ __pos__ __invert__ __abs__ __bool__ __contains__ __getitem__ __len__ "
+    "__repr__ __str__".split()) | {f"__{side}{word}__" for side in ["", "r"] for word in COUNTING} - {"__rpow__"}
+# The signs that may change their object, and other methods that may do so.
+INPLACE_SIGNS = {f"__i{word}__" for word in COUNTING} | {"__setitem__"}
+CHANGING_SIGNS = set("__init__ __iter__ __enter__ __exit__".split()) | INPLACE_SIGNS
 
 
 def sources():
@@ -46,10 +48,10 @@ def bound_in(node):
             yield each.id
 
 
-def methods():
-    """Each method of the package by its name; several may have the same one."""
+def methods(some_trees):
+    """Each method of some files by its name; several may have the same one."""
     found = {}
-    for path, tree in trees():
+    for path, tree in some_trees:
         for kind in tree.body:
             if isinstance(kind, ast.ClassDef):
                 for node in kind.body:
@@ -86,41 +88,76 @@ def assigned_without_setter(some_trees):
     return [(path, each.lineno, each.attr) for path, tree in some_trees for each in assigned_attributes(tree) if each.attr in without]
 
 
-def called_by_name():
-    """For each file the functions, and the constructors, that a name in it means."""
-    own = {path.stem: {} for path, _ in trees()}
-    for path, tree in trees():
+def properties(some_trees):
+    """The names of all properties of some files."""
+    return {node.name for row in methods(some_trees).values() for _, node in row if is_property(node)}
+
+
+def called_by_name(some_trees):
+    """For each file the functions and the classes that a name in it means, those in a table of functions among them."""
+    own = {path.stem: {} for path, _ in some_trees}
+    for path, tree in some_trees:
+        names = own[path.stem]
         for node in tree.body:
-            if isinstance(node, ast.FunctionDef):
-                own[path.stem][node.name] = [(path, node)]
-            if isinstance(node, ast.ClassDef):
-                own[path.stem][node.name] = [(path, each) for each in node.body if getattr(each, "name", "") == "__init__"]
+            if isinstance(node, (ast.FunctionDef, ast.ClassDef)):
+                names[node.name] = [(path, node)]
+            if isinstance(node, ast.Assign):
+                held = [each for name in ast.walk(node.value) if isinstance(name, ast.Name) for each in names.get(name.id, [])]
+                names.update({target.id: held for target in node.targets})
     meant = {stem: dict(names) for stem, names in own.items()}
-    for path, tree in trees():
+    for path, tree in some_trees:
         for node in tree.body:
             if isinstance(node, ast.ImportFrom) and node.module.startswith("missedparts."):
-                there = own[node.module.split(".")[1]]
+                there = own.get(node.module.split(".")[1], {})
                 meant[path.stem].update({name.name: there[name.name] for name in node.names if name.name in there})
     return meant
 
 
-def run_by_signs():
-    """All functions that signs, properties and what they call run; methods are told by their names alone."""
-    known, meant = methods(), called_by_name()
-    waiting = [each for name in SIGNS for each in known.get(name, [])]
-    waiting += [each for row in known.values() for each in row
-                if any(isinstance(sign, ast.Name) and sign.id == "property" for sign in each[1].decorator_list)]
-    found = {}
+def run_by(some_trees, roots):
+    """All functions that run when these do, themselves among them; methods are told by their names alone."""
+    known, meant = methods(some_trees), called_by_name(some_trees)
+    waiting, met, found = list(roots), set(), {}
     while waiting:
         path, node = waiting.pop()
-        if (path, node.lineno) not in found:
+        if (path, node.lineno) in met:
+            continue
+        met.add((path, node.lineno))
+        if isinstance(node, ast.ClassDef):
+            # To call a class is to call its constructor; where it has none, that of one in front of it.
+            made = [each for each in node.body if getattr(each, "name", "") == "__init__"]
+            waiting.extend([(path, each) for each in made])
+            walked = [] if made else node.bases
+        else:
             found[path, node.lineno] = node
-            for each in ast.walk(node):
-                if isinstance(each, ast.Name):
-                    waiting.extend(meant[path.stem].get(each.id, []))
-                if isinstance(each, ast.Attribute):
-                    waiting.extend(known.get(each.attr, []))
+            walked = ast.walk(node)
+        for each in walked:
+            if isinstance(each, ast.Name):
+                waiting.extend(meant[path.stem].get(each.id, []))
+            if isinstance(each, ast.Attribute):
+                waiting.extend(known.get(each.attr, []))
     return found
+
+
+def signs_and_properties(some_trees, names):
+    """Each method of some files that has one of these names or is a property."""
+    return [each for name, row in sorted(methods(some_trees).items()) for each in row if name in names or is_property(each[1])]
+
+
+def run_by_signs():
+    """All functions of the package that run when a sign that changes nothing, or a property, does."""
+    return run_by(trees(), signs_and_properties(trees(), SIGNS))
+
+
+def assigned_by_signs(some_trees):
+    """Where a sign's method or a property comes to an assignment to an attribute with the name of a property.
+
+    For each such pair the file, row and name of what comes to it, and the file, row and attribute that is assigned.
+    """
+    names = properties(some_trees)
+    return [(path.stem, sign.lineno, sign.name, there.stem, each.lineno, each.attr)
+            for path, sign in signs_and_properties(some_trees, SIGNS | INPLACE_SIGNS)
+            for (there, _), node in run_by(some_trees, [(path, sign)]).items()
+            for each in assigned_attributes(node) if each.attr in names]
 
 
 class Files(unittest.TestCase):
@@ -204,7 +241,7 @@ class Words(unittest.TestCase):
                     self.assertEqual(set(bound_in(node)) & outer - {node.name}, set(), (path, node.name))
 
     def test_methods(self):
-        own = set(methods())
+        own = set(methods(trees()))
         for path, tree in trees():
             for node in ast.walk(tree):
                 if isinstance(node, ast.Call) and isinstance(node.func, ast.Attribute):
@@ -258,7 +295,7 @@ class Forms(unittest.TestCase):
                     self.assertEqual({kind.id for kind in kinds} - own, set(), (path, node.lineno))
                 if isinstance(node, ast.Raise):
                     self.assertIsInstance(node.exc, ast.Call, (path, node.lineno))
-                    self.assertIn(node.exc.func.id, own | {"AttributeError", "TypeError"}, (path, node.lineno))
+                    self.assertIn(node.exc.func.id, own | {"TypeError"}, (path, node.lineno))
 
     def test_only_some_decorators(self):
         for path, tree in trees():
@@ -314,6 +351,30 @@ class Box:
     def __init__(self, top):
         self.top = top
 """
+# An error with such an attribute, and a class with a sign that may come to it.
+ERRORS = """
+class Bad(ValueError):
+    def __init__(self, top):
+        self.top = top
+def need(one, other):
+    if one != other:
+        raise Bad(one)
+"""
+BAG = """
+from missedparts.errors import need
+def told(one, other):
+    need(one, other)
+TOLD = (told,)
+class Bag:
+    def held(self, other):
+        need(self, other)
+
+    def SIGN(self, other):
+        ROW
+
+    def low(self, other):
+        return 3
+"""
 
 
 class Properties(unittest.TestCase):
@@ -334,10 +395,39 @@ class Properties(unittest.TestCase):
         for row in ["box.top[0] = 1", "box.top.low = 1", "top = box.top", "box.top()"]:
             self.assertEqual(found(SHELF, row), [], row)
 
-    def test_the_errors_and_the_desk_have_these_names_in_common(self):
+    def test_no_sign_comes_to_an_assignment_to_what_is_called_as_a_property(self):
+        self.assertEqual(assigned_by_signs(trees()), [])
+
+    def test_that_such_a_sign_is_found(self):
+        def found(sign="__and__", row="need(self, other)", errors=ERRORS, shelf=SHELF):
+            texts = {"errors": errors, "bags": BAG.replace("SIGN", sign).replace("ROW", row), "shelves": shelf}
+            return assigned_by_signs([(Path(f"{name}.py"), ast.parse(text)) for name, text in texts.items()])
+
+        expected = [("bags", 10, "__and__", "errors", 4, "top")]
+        self.assertEqual(found(), expected)
+        # It is asked by name, so the setter makes no difference.
+        self.assertEqual(found(shelf=SHELF + SETTER), expected)
+        self.assertEqual(found(shelf=SHELF.replace("top", "low")), [])
+        # Whatever stands between the sign and the assignment.
+        for row in ["told(self, other)", "TOLD[0](self, other)", "self.held(other)", "x = [other.held(each) for each in self]", "self.kept = told"]:
+            self.assertEqual(found(row=row), expected, row)
+        heir = ERRORS.replace("raise Bad", "raise Worse") + "class Worse(Bad):\n    pass\n"
+        self.assertEqual(found(errors=heir), expected)
+        for row in ["return self.low(other)", "return self.top", "other.low = 1"]:
+            self.assertEqual(found(row=row), [], row)
+        for sign in sorted(SIGNS | INPLACE_SIGNS):
+            self.assertEqual(found(sign), [("bags", 10, sign, "errors", 4, "top")])
+        for name in ["__init__", "__enter__", "joined"]:
+            self.assertEqual(found(name), [])
+        # A property that is read comes to no such place either.
+        shelf = "from missedparts.errors import need" + SHELF.replace("self._top", "need(self, 1)")
+        self.assertEqual(found("joined", shelf=shelf), [("shelves", 4, "top", "errors", 4, "top")])
+
+    def test_no_error_has_an_attribute_that_is_called_as_a_property(self):
+        # A sign may raise any error, and the constructor of an error assigns each of its attributes.
         assigned = {each.attr for path, tree in trees() if path.stem == "errors" for each in assigned_attributes(tree)}
-        told = {node.name for path, tree in trees() if path.stem == "desk" for node in ast.walk(tree) if is_property(node)}
-        self.assertEqual(assigned & told, {"one", "other"})
+        self.assertTrue(assigned > {"one", "other"})
+        self.assertEqual(assigned & properties(trees()), set())
 
     def test_a_setter_stands_straight_below_its_property(self):
         for path, tree in trees():
